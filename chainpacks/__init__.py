@@ -1,0 +1,1 @@
+"""Chainpacks: lots, rooms and packings of sizes that divide one another."""

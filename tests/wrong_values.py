@@ -1,0 +1,78 @@
+"""Values of all kinds that a caller may pass, and what a call raises."""
+
+from chainpacks import errors
+
+LONGEST = 10 ** 200 - 1
+TOO_LONG = 10 ** 200
+FAR_TOO_LONG = 10 ** 250 - 1
+
+
+def nested(kind, deep):
+    """Lists, tuples or dicts in one another, so many deep."""
+    value = 1
+    for _ in range(deep):
+        value = {"list": [value], "tuple": (value,), "dict": {1: value}}[kind]
+    return value
+
+
+def package_objects():
+    """Objects of classes of the package."""
+    return [
+        errors.PackError("no"), errors.InvalidSizes("no"), errors.ParseError(None), errors.UnknownName("box"),
+        errors.NoRoom(6), errors.InvalidNumber(()), errors.NothingToUndo(2), errors.TooMany(12), errors.NoChain((2, 3)),
+    ]
+
+
+def not_integers():
+    """Values that are no integers of at most 200 digits."""
+    return [
+        True, False, None, "", "1", "12", "box", "x" * 8000, "\n", (), (1,), (1, 2), (1, True), [], [1], [1, 2], {}, {1: 2},
+        {"a": [1]}, nested("list", 8), nested("tuple", 8), nested("dict", 8), [(1, 2), {3: (4,)}],
+        TOO_LONG, -TOO_LONG, FAR_TOO_LONG, -FAR_TOO_LONG,
+    ] + package_objects()
+
+
+def not_counts():
+    """Values that are no integers of at least 0."""
+    return not_integers() + [-1, -LONGEST]
+
+
+def not_size_values():
+    """Values that are no sizes."""
+    return not_counts() + [0]
+
+
+def not_sizes():
+    """Values that are no ascending tuples of one to twelve sizes."""
+    plain = [value for value in not_integers() if value not in ((1,), (1, 2))]
+    return plain + [
+        0, 1, -1, LONGEST, (0,), (-1,), (0, 1), (-2, 2), (1, 1), (2, 2), (2, 1), (1, 3, 2), (1, 2, 2), (4, 2, 1), (True,),
+        (False,), (True, 2), (1, 2, True), (False, 1), (1, None), (None,), ("1",), ("1", "2"), ((1,),), ((1, 2),),
+        (1, (2,)), ([1],), [1, 2, 6], [1], {1: 1, 2: 2}, "12", (TOO_LONG,), (1, TOO_LONG), (FAR_TOO_LONG,),
+        tuple(range(1, 14)), tuple([2 ** k for k in range(13)]), tuple(range(1, 500)), list(range(1, 13)),
+    ] + [(1, 2, thing) for thing in package_objects()] + [nested("tuple", deep) for deep in range(2, 9)]
+
+
+def not_chains():
+    """Sizes that are no chains, each one with its gap."""
+    return [
+        ((2, 3), (2, 3)), ((1, 2, 3), (2, 3)), ((1, 2, 6, 8, 24), (6, 8)), ((2, 3, 6), (2, 3)), ((4, 6, 9), (4, 6)),
+        ((1, 5, 10, 12, 13), (10, 12)), (tuple(range(1, 13)), (2, 3)), ((7, LONGEST + 1 - 7), (7, LONGEST + 1 - 7)),
+        ((2, 4, 8, 16, 32, 64, 128, 256, 512, 1024, 2048, 2050), (2048, 2050)),
+    ]
+
+
+KEPT = {
+    errors.UnknownName: "word", errors.NoRoom: "size", errors.InvalidNumber: "value", errors.NothingToUndo: "many",
+    errors.TooMany: "limit", errors.NoChain: "gap", errors.ParseError: "line",
+}
+
+
+def raised(call, *args, **named):
+    """The error class and what the error keeps, as a pair, or None if the call raises no error."""
+    try:
+        call(*args, **named)
+    except Exception as error:  # A wrong class of error is what a test has to see.
+        kind = error.__class__
+        return (kind, getattr(error, KEPT[kind]) if kind in KEPT else None)
+    return None
