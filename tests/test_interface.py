@@ -7,6 +7,10 @@ import unittest
 CONSTANTS = {
     "chainpacks.base.words": {"MAX_FIGURES": 200, "MAX_LETTERS": 8},
     "chainpacks.base.chains": {"MAX_SIZES": 12},
+    "chainpacks.things.lots": {"MAX_SIZES": 12},
+    "chainpacks.things.stores": {"MAX_RUNS": 40},
+    "chainpacks.pack.packings": {"MAX_RUNS": 2000, "MAX_STORE": 40, "MAX_SIZES": 12},
+    "chainpacks.pack.rules": {"RULES": ("first", "last", "tightest"), "MAX_ROW": 200},
 }
 FUNCTIONS = {
     "chainpacks.base.words": {name: "value" for name in ("is_integer", "is_count", "is_size", "is_name")},
@@ -16,7 +20,63 @@ FUNCTIONS = {
         "is_link": "low high value", "longest_chain": "sizes", "many_chains": "sizes", "chain_parts": "sizes",
         "clashing": "sizes", "is_chain_parts": "sizes value", "is_clashing": "sizes value",
     },
+    "chainpacks.pack.packings": {"is_filling": "value", "load_of": "filling", "is_packing_of": "lot store value"},
+    "chainpacks.pack.rules": {
+        "is_rule": "value", "pack": "lot store * rule", "is_greedy": "lot store value", "is_row": "value", "lot_of": "row",
+        "pack_row": "row store", "is_taken": "row store",
+    },
 }
+METHODS = {
+    ("chainpacks.things.lots", "Lot"): {
+        "__init__": "self counts", "units": "self size", "smallest": "self number", "largest": "self number",
+        "thing_at": "self index", "is_part_of": "self value", "with_count": "self size number", "scaled": "self factor",
+    },
+    ("chainpacks.things.stores", "Store"): {
+        "__init__": "self *runs", "units": "self size", "room_at": "self index", "part": "self first last",
+        "backward": "self", "ascending": "self", "cut": "self size", "capped": "self room", "exchanged": "self index room",
+        "each_room": "self",
+    },
+    ("chainpacks.pack.packings", "Packing"): {
+        "__init__": "self *runs", "room_at": "self index", "left_at": "self index", "spot_of": "self size index",
+        "joined": "self other", "backward": "self", "moved": "self source target size * many", "is_alike": "self value",
+    },
+}
+PROPERTIES = {
+    ("chainpacks.things.lots", "Lot"): "counts sizes lines number total is_chained",
+    ("chainpacks.things.stores", "Store"): "runs lines number total greatest rooms",
+    ("chainpacks.pack.packings", "Packing"): "runs lines lot store number load left",
+}
+SIGNS = {
+    ("chainpacks.things.lots", "Lot"): "add sub mul getitem contains len iter eq str",
+    ("chainpacks.things.stores", "Store"): "add contains len iter eq str",
+    ("chainpacks.pack.packings", "Packing"): "contains len iter eq str",
+}
+DEFAULTS = {
+    ("chainpacks.things.lots", "Lot.__init__"): {"counts": None},
+    ("chainpacks.pack.packings", "Packing.moved"): {"many": 1},
+    ("chainpacks.pack.rules", "pack"): {"rule": "first"},
+}
+
+
+def words_of(call):
+    """The names of the parameters, with a star before each one behind which names are told, and before the rest."""
+    words = []
+    for parameter in inspect.signature(call).parameters.values():
+        if parameter.kind == parameter.KEYWORD_ONLY and "*" not in words:
+            words.append("*")
+        words.append(f"*{parameter.name}" if parameter.kind == parameter.VAR_POSITIONAL else parameter.name)
+    return words
+
+
+def defaults_of(call):
+    """The default values of a function."""
+    told = inspect.signature(call).parameters.values()
+    return {parameter.name: parameter.default for parameter in told if parameter.default is not parameter.empty}
+
+
+def told_class(place):
+    """The class that stands in a module under this name."""
+    return getattr(importlib.import_module(place[0]), place[1])
 
 
 class TestInterface(unittest.TestCase):
@@ -31,7 +91,28 @@ class TestInterface(unittest.TestCase):
                 call = getattr(importlib.import_module(module), name)
                 self.assertTrue(inspect.isfunction(call), name)
                 self.assertEqual(call.__module__, module)
-                self.assertEqual(list(inspect.signature(call).parameters), words.split(), name)
+                self.assertEqual(words_of(call), words.split(), name)
+                self.assertEqual(defaults_of(call), DEFAULTS.get((module, name), {}), name)
+
+    def test_methods_stand_in_the_class_itself(self):
+        for place, told in METHODS.items():
+            kind = told_class(place)
+            self.assertEqual((kind.__module__, kind.__bases__), (place[0], (object,)))
+            for name, words in told.items():
+                call = vars(kind)[name]
+                self.assertTrue(inspect.isfunction(call), name)
+                self.assertEqual(words_of(call), words.split(), name)
+                self.assertEqual(defaults_of(call), DEFAULTS.get((place[0], f"{place[1]}.{name}"), {}), name)
+            self.assertIsInstance(vars(kind)["from_lines"], classmethod)
+            self.assertEqual(words_of(kind.from_lines), ["*lines"])
+
+    def test_properties_and_signs_stand_in_the_class_itself(self):
+        for place, words in PROPERTIES.items():
+            for name in words.split():
+                self.assertIsInstance(vars(told_class(place))[name], property, name)
+        for place, words in SIGNS.items():
+            for name in words.split():
+                self.assertIn(f"__{name}__", vars(told_class(place)))
 
 
 if __name__ == "__main__":

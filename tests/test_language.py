@@ -194,5 +194,80 @@ class TestCode(unittest.TestCase):
                     self.assertNotIn("%", node.value, path)
 
 
+class TestClasses(unittest.TestCase):
+    """Rules L5, L18, L23, L25 and L26, as far as the classes of the package need them."""
+
+    def members(self, kind):
+        return [node for node in kind.body if isinstance(node, ast.FunctionDef)]
+
+    def marked(self, word):
+        """The names of the functions in classes with this decorator."""
+        found = set()
+        for _, kind in walk(ast.ClassDef):
+            for node in self.members(kind):
+                if any(isinstance(mark, ast.Name) and mark.id == word for mark in node.decorator_list):
+                    found.add(node.name)
+        return found
+
+    def test_l5_iteration_and_length(self):
+        for place, kind in walk(ast.ClassDef):
+            told = {node.name: node for node in self.members(kind)}
+            if "__getitem__" in told:
+                self.assertIn("__iter__", told, place)
+            if "__iter__" in told:
+                self.assertRegex(ast.unparse(told["__iter__"].body[-1]), r"^return iter\(self\.\w+\)$", place)
+            if "__len__" in told:
+                self.assertRegex(ast.unparse(told["__len__"].body[-1]), r"^return len\(self\.\w+\)$", place)
+            if "__str__" in told:
+                self.assertIsInstance(told["__str__"].body[-1].value, ast.JoinedStr, place)
+
+    def test_l5_names_of_properties(self):
+        properties, plain = self.marked("property"), set()
+        for _, kind in walk(ast.ClassDef):
+            plain.update(node.name for node in self.members(kind) if not node.decorator_list)
+        self.assertEqual(properties & plain, set())
+        self.assertEqual(properties & self.marked("classmethod"), set())
+        for kind in (str, int, list, dict, set, bytes):
+            self.assertEqual({name for name in properties if hasattr(kind, name)}, set())
+
+    def test_l18_no_name_is_a_method_and_an_attribute(self):
+        methods = {node.name for _, kind in walk(ast.ClassDef) for node in self.members(kind)}
+        stored = {node.attr for _, node in walk(ast.Attribute) if isinstance(node.ctx, ast.Store)}
+        self.assertEqual(methods & stored, set())
+
+    def test_l5_no_property_is_assigned(self):
+        stored = {node.attr for _, node in walk(ast.Attribute) if isinstance(node.ctx, ast.Store)}
+        self.assertEqual(stored & self.marked("property"), set())
+
+    def test_l5_plain_sums(self):
+        # Beside operators `+=` and its kind are allowed in few places; here there are none.
+        self.assertEqual([place for place, _ in walk(ast.AugAssign)], [])
+
+    def test_l23_names_of_generators(self):
+        names = [node.name for _, node in walk(ast.FunctionDef)]
+        for place, node in walk(ast.FunctionDef):
+            if any(isinstance(each, (ast.Yield, ast.YieldFrom)) for each in ast.walk(node)):
+                self.assertEqual(names.count(node.name), 1, place)
+
+    def test_l25_no_sort_of_lists_and_no_errors_caught(self):
+        calls = [node.func.attr for _, node in walk(ast.Call) if isinstance(node.func, ast.Attribute)]
+        self.assertNotIn("sort", calls)
+        self.assertEqual([place for place, _ in walk((ast.Try, ast.With, ast.Match))], [])
+
+    def test_l2_no_products_beside_iteration(self):
+        for place, node in walk(ast.ImportFrom):
+            self.assertNotEqual(node.module, "itertools", place)
+
+    def test_l7_stars_stand_before_plain_names(self):
+        for place, node in walk(ast.Starred):
+            self.assertIsInstance(node.value, ast.Name, place)
+
+    def test_l17_words_that_stand_nowhere(self):
+        for path in files():
+            text = path.read_text("utf-8")
+            for word in ("(type)", "Meta", "metaclass=", "_wall"):
+                self.assertNotIn(word, text, path)
+
+
 if __name__ == "__main__":
     unittest.main()

@@ -1,6 +1,9 @@
 """Values of all kinds that a caller may pass, and what a call raises."""
 
 from chainpacks import errors
+from chainpacks.pack.packings import Packing
+from chainpacks.things.lots import Lot
+from chainpacks.things.stores import Store
 
 LONGEST = 10 ** 200 - 1
 TOO_LONG = 10 ** 200
@@ -20,6 +23,8 @@ def package_objects():
     return [
         errors.PackError("no"), errors.InvalidSizes("no"), errors.ParseError(None), errors.UnknownName("box"),
         errors.NoRoom(6), errors.InvalidNumber(()), errors.NothingToUndo(2), errors.TooMany(12), errors.NoChain((2, 3)),
+        Lot(), Lot({1: 1}), Lot({1: 5, 2: 3, 6: 4}), Store(), Store((1, 1)), Store((10, 2), (7, 3)), Packing(),
+        Packing((1, 1, ())), Packing((10, 2, ((1, 4), (6, 1))), (7, 3, ())),
     ]
 
 
@@ -60,6 +65,43 @@ def not_chains():
         ((1, 5, 10, 12, 13), (10, 12)), (tuple(range(1, 13)), (2, 3)), ((7, LONGEST + 1 - 7), (7, LONGEST + 1 - 7)),
         ((2, 4, 8, 16, 32, 64, 128, 256, 512, 1024, 2048, 2050), (2048, 2050)),
     ]
+
+
+def all_values():
+    """Values of all kinds, integers among them."""
+    return not_integers() + [0, 1, -1, 2, 12, LONGEST, -LONGEST]
+
+
+def not_lots():
+    """Values that are no lots."""
+    return [value for value in all_values() if not isinstance(value, Lot)]
+
+
+def not_stores():
+    """Values that are no stores."""
+    return [value for value in all_values() if not isinstance(value, Store)]
+
+
+def not_packings():
+    """Values that are no packings."""
+    return [value for value in all_values() if not isinstance(value, Packing)]
+
+
+def not_pairs_of_sizes():
+    """Values that are no pairs of integers of at least 1."""
+    return [value for value in all_values() if value != (1, 2)] + [
+        (1,), (1, 2, 3), [1, 2], (0, 1), (1, 0), (-1, 2), (2, -1), (True, 1), (1, True), (False, 1), (1, False), (None, 1),
+        (1, None), ("1", 1), (1, "1"), ((1,), 1), (1, (1,)), ([1], 1), (1, [1]), ({}, 1), (TOO_LONG, 1), (1, TOO_LONG),
+        (FAR_TOO_LONG, 1), (1, FAR_TOO_LONG), (Lot(), 1), (1, Store()),
+    ]
+
+
+def not_fillings():
+    """Values that are no fillings of at most twelve sizes."""
+    return [value for value in all_values() if value != ()] + [
+        ((1, 1), (1, 1)), ((2, 1), (1, 1)), ((1, 1), (3, 1), (2, 1)), [(1, 1)], {1: 1}, ((1, 1), [2, 1]), ((1, 1), None),
+        tuple([(size, 1) for size in range(1, 14)]), (((1, 1),),), (1, 1), "((1, 1),)",
+    ] + [(pair,) for pair in not_pairs_of_sizes()] + [((1, 1), pair) for pair in not_pairs_of_sizes()]
 
 
 KEPT = {

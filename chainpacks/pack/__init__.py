@@ -1,0 +1,1 @@
+"""Packings, and the rules that make them."""

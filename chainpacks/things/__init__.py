@@ -1,0 +1,1 @@
+"""Lots of things, and stores of rooms."""
