@@ -25,6 +25,19 @@ FUNCTIONS = {
         "is_rule": "value", "pack": "lot store * rule", "is_greedy": "lot store value", "is_row": "value", "lot_of": "row",
         "pack_row": "row store", "is_taken": "row store",
     },
+    "chainpacks.decide.levels": {
+        "levels_of": "lot store", "fits": "lot store", "barring_sizes": "lot store", "spare": "lot store size",
+        "more_rooms": "lot store room", "fit_paper": "lot store", "is_fit_paper": "lot store value",
+    },
+    "chainpacks.decide.profiles": {
+        "profile": "chain store", "is_profile": "chain value", "plain_store": "chain units", "takes_all": "chain one other",
+        "are_alike": "chain one other", "parting_lot": "chain one other", "common_store": "chain one other",
+        "joint_store": "chain one other", "is_easier": "lot other", "parting_store": "lot other",
+    },
+    "chainpacks.decide.fooled": {
+        "fooling_pairs": "sizes", "fooled_number": "sizes", "fooled_lot": "sizes * rule", "is_fooled_lot": "sizes value * rule",
+        "safe_paper": "sizes", "is_safe_paper": "sizes value",
+    },
 }
 METHODS = {
     ("chainpacks.things.lots", "Lot"): {
@@ -55,6 +68,8 @@ DEFAULTS = {
     ("chainpacks.things.lots", "Lot.__init__"): {"counts": None},
     ("chainpacks.pack.packings", "Packing.moved"): {"many": 1},
     ("chainpacks.pack.rules", "pack"): {"rule": "first"},
+    ("chainpacks.decide.fooled", "fooled_lot"): {"rule": "first"},
+    ("chainpacks.decide.fooled", "is_fooled_lot"): {"rule": "first"},
 }
 
 
