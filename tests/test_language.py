@@ -99,6 +99,15 @@ class TestImports(unittest.TestCase):
             else:
                 self.assertTrue(self.defines(node.module, names), place)
 
+    def test_each_import_is_used_and_no_variable_has_its_name(self):
+        for path, tree in trees():
+            names = {alias.name for node in tree.body if isinstance(node, ast.ImportFrom) for alias in node.names}
+            read = {node.id for node in ast.walk(tree) if isinstance(node, ast.Name) and isinstance(node.ctx, ast.Load)}
+            stored = {node.id for node in ast.walk(tree) if isinstance(node, ast.Name) and isinstance(node.ctx, ast.Store)}
+            stored |= {node.arg for node in ast.walk(tree) if isinstance(node, ast.arg)}
+            self.assertEqual(names - read - {"annotations"}, set(), path)
+            self.assertEqual(names & stored, set(), path)
+
     def defines(self, module, names):
         path = PACKAGE.parent.joinpath(*module.split(".")).with_suffix(".py")
         return module.split(".")[0] == "chainpacks" and path.is_file() and names <= bound_names(path)

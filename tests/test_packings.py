@@ -373,6 +373,8 @@ class TestWrongInputs(unittest.TestCase):
     def test_the_first_error_comes_first(self):
         self.assertEqual(raised(lambda: SHOWN.moved(5, 6, 7, many=0)), (InvalidNumber, 5))
         self.assertEqual(raised(lambda: SHOWN.moved(0, True, 7, many=0)), (InvalidNumber, True))
+        self.assertEqual(raised(lambda: SHOWN.moved(0, 5, 7, many=0)), (InvalidNumber, 5))
+        self.assertEqual(raised(lambda: SHOWN.moved(0, 5, 1, many=0)), (InvalidNumber, 5))
         self.assertEqual(raised(lambda: SHOWN.moved(0, 0, 7, many=0)), (NoRoom, 7))
         self.assertEqual(raised(lambda: SHOWN.moved(0, 0, 1, many=5)), (InvalidNumber, 5))
         self.assertEqual(raised(lambda: SHOWN.moved(0, 0, 1, many=TOO_LONG)), (InvalidNumber, TOO_LONG))

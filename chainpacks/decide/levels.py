@@ -58,7 +58,6 @@ def more_rooms(lot, store, room):
     check_lot(lot)
     check_store(store)
     check_size(room)
-    check_together(lot.sizes)
     number = 0
     for size, needed, given in levels_of(lot, store):
         if needed > given and size > room:

@@ -2,7 +2,7 @@
 
 from chainpacks.base.checks import check_between
 from chainpacks.base.lines import numbers_in, pairs_in, text_of
-from chainpacks.base.runs import is_run, joined_runs, number_of_all, part_of_runs, run_at, with_run_at
+from chainpacks.base.runs import is_run, joined_runs, number_of_all, run_at, with_run_at
 from chainpacks.base.words import is_size
 from chainpacks.errors import InvalidOperation, InvalidPacking, NoRoom, ParseError
 from chainpacks.things.lots import Lot, check_lot

@@ -68,7 +68,7 @@ def _put(runs, order, size, number):
         taken = min(left, most * runs[at][1])
         pieces[at] = [runs[at]] if taken == 0 else _pieces(runs[at], size, most, taken)
         left = left - taken
-    return ([piece for at in range(len(runs)) for piece in pieces[at]], left)
+    return ([piece for spot in range(len(runs)) for piece in pieces[spot]], left)
 
 
 def _pieces(run, size, most, taken):
