@@ -149,6 +149,64 @@ class TestLots(unittest.TestCase):
                 self.check(sizes, rule)
 
 
+def least_greatest_room(sizes, numbers, rule):
+    """The least greatest room of a store by which a lot of so many things fools the rule, from a look at all."""
+    for room in itertools.count(1):
+        for number in numbers:
+            for things in itertools.combinations_with_replacement(sizes, number):
+                order = sorted(things, reverse=True)
+                for rooms in all_rows(range(sizes[0], room + 1), 2):
+                    if room in rooms and sum(rooms) >= sum(things) and walk(order, rooms, rule)[1] < number:
+                        if can_fit(things, rooms):
+                            return room
+
+
+class TestLongSizes(unittest.TestCase):
+    """Sizes that are so long that only lots with the least rooms can be made."""
+
+    def check(self, sizes, rule, room):
+        """There is a lot if each size is taken times a number with which the least greatest room is just short enough."""
+        factor = LONGEST // room
+        long_sizes = tuple(size * factor for size in sizes)
+        told = fooled_lot(long_sizes, rule=rule)
+        self.assertIs(is_fooled_lot(long_sizes, told, rule=rule), True)
+        self.assertLessEqual(told[1].greatest, room * factor)
+        if rule == "first":
+            self.assertEqual(told[0].number, fooled_number(sizes))
+            self.assertIs(is_safe_paper(long_sizes, safe_paper(long_sizes)), True)
+
+    def test_first(self):
+        for many in (2, 3):
+            for sizes in itertools.combinations(range(2, 10), many):
+                number = fooled_number(sizes)
+                if number in (3, 4):
+                    room = least_greatest_room(sizes, (number,), "first")
+                    self.check(sizes, "first", max(room, sizes[-1]))
+
+    def test_last_and_tightest(self):
+        for sizes in ((2, 3), (2, 5), (3, 4), (4, 6), (2, 3, 4), (2, 5, 6), (3, 6, 7), (2, 4, 5), (3, 4, 5), (1, 3, 5), (2, 4, 7)):
+            for rule in ("last", "tightest"):
+                room = least_greatest_room(sizes, (3, 4, 5), rule)
+                self.check(sizes, rule, max(room, sizes[-1]))
+
+    def test_three_sizes(self):
+        for small, room, number in (
+            ((2, 5, 6), 7, 3), ((3, 6, 7), 9, 3), ((3, 7, 8), 10, 3), ((4, 8, 9), 12, 3), ((2, 4, 9), 10, 4), ((2, 6, 19), 20, 5),
+        ):
+            sizes = tuple(size * (LONGEST // room) for size in small)
+            told = fooled_lot(sizes)
+            self.assertEqual((told[0].number, told[0].sizes), (number, sizes))
+            self.assertIs(is_fooled_lot(sizes, told), True)
+            self.assertIs(is_safe_paper(sizes, safe_paper(sizes)), True)
+
+    def test_a_short_pair_beside_long_sizes(self):
+        for sizes in ((2, 9, 6 * 10 ** 199, 9 * 10 ** 199), (3, 4, 5 * 10 ** 199, 7 * 10 ** 199 + 1)):
+            told = fooled_lot(sizes, rule="last")
+            self.assertIs(is_fooled_lot(sizes, told, rule="last"), True)
+            told = fooled_lot(sizes, rule="tightest")
+            self.assertIs(is_fooled_lot(sizes, told, rule="tightest"), True)
+
+
 class TestJudges(unittest.TestCase):
     """The judges against looks at all packings."""
 

@@ -1,7 +1,7 @@
 """Lots that fool a rule: they fit, and the rule does not pack them."""
 
 from chainpacks.base.chains import check_sizes, is_chain, quotients
-from chainpacks.pack.packings import Packing, is_packing_of
+from chainpacks.pack.packings import Packing, filling_with, is_packing_of
 from chainpacks.pack.rules import check_rule, pack
 from chainpacks.things.lots import Lot
 from chainpacks.things.stores import Store
@@ -26,19 +26,26 @@ def fooled_lot(sizes, *, rule="first"):
         return None
     if rule == "tightest":
         packing = _tightest_packing(pairs)
+    elif rule == "last":
+        packing = _first_packing(sizes, pairs).backward()
     else:
-        packing = _first_packing(pairs)
-    if rule == "last":
-        packing = packing.backward()
+        least = fooled_number(sizes)
+        packing = _first_packing(sizes, [pair for pair in pairs if pair[2] == least])
     return (packing.lot, packing.store, packing)
 
 
-def _first_packing(pairs):
-    """A packing of as few things as possible that the rule `first` does not find."""
-    # Of several pairs with the least number the one with the least room is taken.
-    number, room, low, high = min([(number, (number - 1) * low, low, high) for low, high, number in pairs])
-    # The rule puts the greater thing where the lesser ones fill all space, and one of them finds no room.
-    return Packing((room, 1, ((low, number - 1),)), (high, 1, ((high, 1),)))
+def _first_packing(sizes, pairs):
+    """A packing that the rule `first` does not find, of so many things as one of these pairs tells."""
+    # One lesser thing can be of a smaller size than the others. The least room is taken, as rooms can be too long.
+    told = [
+        ((number - 2) * low + last, low, high, last, number - 2)
+        for low, high, number in pairs
+        for last in sizes
+        if high % low < last <= low
+    ]
+    room, low, high, last, many = min(told)
+    # The rule puts the greater thing where the lesser ones fill all space, and the last of them finds no room.
+    return Packing((room, 1, filling_with(((low, many),), last, 1)), (high, 1, ((high, 1),)))
 
 
 def _tightest_packing(pairs):
