@@ -11,6 +11,7 @@ CONSTANTS = {
     "chainpacks.things.stores": {"MAX_RUNS": 40},
     "chainpacks.pack.packings": {"MAX_RUNS": 2000, "MAX_STORE": 40, "MAX_SIZES": 12},
     "chainpacks.pack.rules": {"RULES": ("first", "last", "tightest"), "MAX_ROW": 200},
+    "chainpacks.worth.goods": {"MAX_GOODS": 40},
 }
 FUNCTIONS = {
     "chainpacks.base.words": {name: "value" for name in ("is_integer", "is_count", "is_size", "is_name")},
@@ -38,6 +39,28 @@ FUNCTIONS = {
         "fooling_pairs": "sizes", "fooled_number": "sizes", "fooled_lot": "sizes * rule", "is_fooled_lot": "sizes value * rule",
         "safe_paper": "sizes", "is_safe_paper": "sizes value",
     },
+    "chainpacks.decide.fewest": {
+        "fewest_rooms": "lot room", "least_room": "lot rooms", "fewest_of": "lot store", "least_cap": "lot store",
+        "rooms_paper": "lot store", "is_rooms_paper": "lot store value", "cap_paper": "lot store",
+        "is_cap_paper": "lot store value",
+    },
+    "chainpacks.decide.most": {
+        "most_things": "lot store", "most_total": "lot store", "keep_things": "lot store", "keep_total": "lot store",
+        "is_kept_things": "lot store value", "is_kept_total": "lot store value", "things_paper": "lot store",
+        "total_paper": "lot store", "is_things_paper": "lot store value", "is_total_paper": "lot store value",
+        "keep_all_of": "lot store sizes",
+    },
+    "chainpacks.worth.goods": {
+        "best_worth": "goods store", "best_choice": "goods store", "is_best_choice": "goods store value",
+        "worths_of": "goods store sizes", "best_full": "goods total", "least_full": "goods total",
+        "full_choice": "goods total * least", "is_full_choice": "goods total value * least",
+    },
+    "chainpacks.worth.purses": {
+        "can_pay": "purse amount", "lacking_sizes": "purse amount", "fewest_coins": "purse amount",
+        "most_coins": "purse amount", "pay_paper": "purse amount", "is_pay_paper": "purse amount value",
+        "count_amounts": "purse", "amounts_below": "purse amount", "amount_at": "purse index", "is_gapless": "purse",
+        "can_trade": "purse till amount", "trade": "purse till amount", "is_trade": "purse till amount value",
+    },
 }
 METHODS = {
     ("chainpacks.things.lots", "Lot"): {
@@ -53,16 +76,19 @@ METHODS = {
         "__init__": "self *runs", "room_at": "self index", "left_at": "self index", "spot_of": "self size index",
         "joined": "self other", "backward": "self", "moved": "self source target size * many", "is_alike": "self value",
     },
+    ("chainpacks.worth.goods", "Goods"): {"__init__": "self counts", "is_choice": "self value", "less": "self choice"},
 }
 PROPERTIES = {
     ("chainpacks.things.lots", "Lot"): "counts sizes lines number total is_chained",
     ("chainpacks.things.stores", "Store"): "runs lines number total greatest rooms",
     ("chainpacks.pack.packings", "Packing"): "runs lines lot store number load left",
+    ("chainpacks.worth.goods", "Goods"): "counts lines lot load worth",
 }
 SIGNS = {
     ("chainpacks.things.lots", "Lot"): "add sub mul getitem contains len iter eq str",
     ("chainpacks.things.stores", "Store"): "add contains len iter eq str",
     ("chainpacks.pack.packings", "Packing"): "contains len iter eq str",
+    ("chainpacks.worth.goods", "Goods"): "contains len iter eq str",
 }
 DEFAULTS = {
     ("chainpacks.things.lots", "Lot.__init__"): {"counts": None},
@@ -70,6 +96,8 @@ DEFAULTS = {
     ("chainpacks.pack.rules", "pack"): {"rule": "first"},
     ("chainpacks.decide.fooled", "fooled_lot"): {"rule": "first"},
     ("chainpacks.decide.fooled", "is_fooled_lot"): {"rule": "first"},
+    ("chainpacks.worth.goods", "full_choice"): {"least": False},
+    ("chainpacks.worth.goods", "is_full_choice"): {"least": False},
 }
 
 

@@ -4,6 +4,7 @@ from chainpacks import errors
 from chainpacks.pack.packings import Packing
 from chainpacks.things.lots import Lot
 from chainpacks.things.stores import Store
+from chainpacks.worth.goods import Goods
 
 LONGEST = 10 ** 200 - 1
 TOO_LONG = 10 ** 200
@@ -24,7 +25,7 @@ def package_objects():
         errors.PackError("no"), errors.InvalidSizes("no"), errors.ParseError(None), errors.UnknownName("box"),
         errors.NoRoom(6), errors.InvalidNumber(()), errors.NothingToUndo(2), errors.TooMany(12), errors.NoChain((2, 3)),
         Lot(), Lot({1: 1}), Lot({1: 5, 2: 3, 6: 4}), Store(), Store((1, 1)), Store((10, 2), (7, 3)), Packing(),
-        Packing((1, 1, ())), Packing((10, 2, ((1, 4), (6, 1))), (7, 3, ())),
+        Packing((1, 1, ())), Packing((10, 2, ((1, 4), (6, 1))), (7, 3, ())), Goods({}), Goods({(1, 3): 2, (6, 11): 1}),
     ]
 
 
@@ -85,6 +86,11 @@ def not_stores():
 def not_packings():
     """Values that are no packings."""
     return [value for value in all_values() if not isinstance(value, Packing)]
+
+
+def not_goods():
+    """Values that are no goods."""
+    return [value for value in all_values() if not isinstance(value, Goods)]
 
 
 def not_pairs_of_sizes():

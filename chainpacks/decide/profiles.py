@@ -22,10 +22,10 @@ def is_profile(chain, value):
         return False
     if not all([is_count(units) for units in value]):
         return False
-    return all([many >= 0 for many in _plain_counts(chain, value)])
+    return all([many >= 0 for many in plain_counts(chain, value)])
 
 
-def _plain_counts(chain, units):
+def plain_counts(chain, units):
     """How many rooms of each size of the chain have these units together."""
     # What rooms of greater sizes have at a size is told by the units at the next one.
     above = [high * quotient for high, quotient in zip(units[1:], quotients(chain))] + [0]
@@ -34,7 +34,7 @@ def _plain_counts(chain, units):
 
 def _plain(chain, units):
     """The plain store with what surely is a profile, also one of long numbers."""
-    runs = [(size, many) for size, many in zip(chain, _plain_counts(chain, units)) if many > 0]
+    runs = [(size, many) for size, many in zip(chain, plain_counts(chain, units)) if many > 0]
     return Store(*runs)
 
 

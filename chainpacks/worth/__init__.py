@@ -1,0 +1,1 @@
+"""Goods, which are things with worths, and purses of coins."""
