@@ -258,10 +258,37 @@ class TestClasses(unittest.TestCase):
             if any(isinstance(each, (ast.Yield, ast.YieldFrom)) for each in ast.walk(node)):
                 self.assertEqual(names.count(node.name), 1, place)
 
-    def test_l25_no_sort_of_lists_and_no_errors_caught(self):
+    def test_l25_no_sort_of_lists(self):
         calls = [node.func.attr for _, node in walk(ast.Call) if isinstance(node.func, ast.Attribute)]
         self.assertNotIn("sort", calls)
-        self.assertEqual([place for place, _ in walk((ast.Try, ast.With, ast.Match))], [])
+        self.assertEqual([place for place, _ in walk(ast.Match)], [])
+
+    def test_l19_only_errors_of_the_package_are_caught(self):
+        own = {node.name for node in ast.parse((PACKAGE / "errors.py").read_text("utf-8")).body if isinstance(node, ast.ClassDef)}
+        for place, node in walk(ast.Try):
+            self.assertEqual(node.finalbody, [], place)
+        for place, node in walk(ast.ExceptHandler):
+            self.assertIn(node.type.id, own, place)
+
+    def test_l6_blocks_and_their_ends(self):
+        for place, node in walk(ast.With):
+            self.assertEqual([ast.unparse(item.context_expr) for item in node.items], ["self.trial()"], place)
+        for place, node in walk(ast.FunctionDef):
+            if node.name == "__exit__":
+                self.assertEqual(ast.unparse(node.args), "self, kind, value, trace", place)
+                first, *rest = [ast.unparse(row) for row in node.body]
+                self.assertEqual(first, "bench = self._bench", place)
+                for row in rest:
+                    self.assertRegex(row, r"^bench\.(\w+) = self\.\1$", place)
+
+    def test_l3_tables_of_functions(self):
+        for path, tree in trees():
+            tables = {node.targets[0].id for node in tree.body if isinstance(node, ast.Assign) and isinstance(node.value, ast.Dict)}
+            for node in ast.walk(tree):
+                if isinstance(node, ast.Call) and isinstance(node.func, ast.Subscript):
+                    self.fail(f"{path}:{node.lineno} calls what stands in a table, without a name for it")
+                if isinstance(node, ast.Subscript) and isinstance(node.value, ast.Name) and node.value.id in tables:
+                    self.assertIsInstance(node.ctx, ast.Load, path)
 
     def test_l2_no_products_beside_iteration(self):
         for place, node in walk(ast.ImportFrom):

@@ -2,8 +2,10 @@
 
 from chainpacks import errors
 from chainpacks.pack.packings import Packing
+from chainpacks.text.shell import Shell
 from chainpacks.things.lots import Lot
 from chainpacks.things.stores import Store
+from chainpacks.use.bench import Bench
 from chainpacks.worth.goods import Goods
 
 LONGEST = 10 ** 200 - 1
@@ -26,6 +28,7 @@ def package_objects():
         errors.NoRoom(6), errors.InvalidNumber(()), errors.NothingToUndo(2), errors.TooMany(12), errors.NoChain((2, 3)),
         Lot(), Lot({1: 1}), Lot({1: 5, 2: 3, 6: 4}), Store(), Store((1, 1)), Store((10, 2), (7, 3)), Packing(),
         Packing((1, 1, ())), Packing((10, 2, ((1, 4), (6, 1))), (7, 3, ())), Goods({}), Goods({(1, 3): 2, (6, 11): 1}),
+        Bench((1, 2), Store((7, 3))), Shell(Bench((1,), Store())),
     ]
 
 
@@ -86,6 +89,11 @@ def not_stores():
 def not_packings():
     """Values that are no packings."""
     return [value for value in all_values() if not isinstance(value, Packing)]
+
+
+def not_benches():
+    """Values that are no benches."""
+    return [value for value in all_values() if not isinstance(value, Bench)]
 
 
 def not_goods():

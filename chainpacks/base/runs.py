@@ -13,6 +13,11 @@ def number_of_all(runs):
     return sum([run[1] for run in runs])
 
 
+def units_of(runs, size):
+    """The units of runs of things or of rooms at a size: what is smaller than it has none."""
+    return sum([run[1] * (run[0] // size) for run in runs])
+
+
 def joined_runs(runs):
     """The runs, where neighbours that are equal but for how many there are have become one."""
     joined = []

@@ -1,7 +1,7 @@
 """The fewest rooms and the least loads with which a chained lot fits."""
 
 from chainpacks.base.checks import check_size
-from chainpacks.base.runs import part_of_runs
+from chainpacks.base.runs import part_of_runs, units_of
 from chainpacks.base.words import is_size
 from chainpacks.decide.levels import barring_sizes, check_together, levels_of
 from chainpacks.errors import InvalidOperation, NoRoom
@@ -21,9 +21,16 @@ def fewest_rooms(lot, room):
     check_lot(lot)
     check_size(room)
     check_together(lot.sizes)
-    if lot.sizes and lot.sizes[-1] > room:
-        raise NoRoom(lot.sizes[-1])
-    return max([_rounded_up(lot.units(size), room // size) for size in lot.sizes], default=0)
+    return fewest_for(lot.counts, room)
+
+
+def fewest_for(counts, room):
+    """The least number of rooms of this size for counts of sizes of a chain, which can be too long for a lot."""
+    greatest = max(list(counts), default=0)
+    if greatest > room:
+        raise NoRoom(greatest)
+    things = list(counts.items())
+    return max([_rounded_up(units_of(things, size), room // size) for size in counts], default=0)
 
 
 def least_room(lot, rooms):
@@ -44,14 +51,14 @@ def _check_fit(lot, store):
 def _numbers(lot, store):
     """For each size of a lot that fits, the pair of the fewest rooms that have its units, and of the size."""
     rooms = list(store.rooms.items())[::-1]
-    return [(_fewest(rooms, size, needed), size) for size, needed, _ in levels_of(lot, store)]
+    return [(_rooms_with(rooms, size, needed), size) for size, needed, _ in levels_of(lot, store)]
 
 
-def _fewest(rooms, size, needed):
-    """How many of the rooms, the greatest first, have so many units at a size; there are enough of them."""
+def _rooms_with(runs, size, needed):
+    """How many rooms, one behind the other, have so many units at a size; there are enough of them."""
     number = 0
     left = needed
-    for room, many in rooms:
+    for room, many in runs:
         units = room // size
         if left <= units * many:
             return number + _rounded_up(left, units)
@@ -139,8 +146,7 @@ def is_rooms_paper(lot, store, value):
     number, packing, size = value
     if number != sum([many for _, many, filling in packing.runs if filling]):
         return False
-    units = sum([many * (room // size) for room, many, _ in _greatest(store, number - 1)])
-    return lot.units(size) > units
+    return lot.units(size) > units_of(_greatest(store, number - 1), size)
 
 
 def _check_both(lot, store):
@@ -178,4 +184,4 @@ def is_cap_paper(lot, store, value):
     cap, packing, size = value
     if any([plain_load(filling) > cap for _, _, filling in packing.runs]):
         return False
-    return lot.units(size) > sum([many * (min(room, cap - 1) // size) for room, many in store.runs])
+    return lot.units(size) > units_of([(min(room, cap - 1), many) for room, many in store.runs], size)

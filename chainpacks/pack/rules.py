@@ -1,6 +1,6 @@
 """Rules that put things into rooms one by one: the greatest first, or as they come."""
 
-from chainpacks.base.runs import is_run
+from chainpacks.base.runs import is_run, number_of_all
 from chainpacks.errors import InvalidOperation
 from chainpacks.pack.packings import Packing, filling_with, plain_load, rooms_of, things_of
 from chainpacks.things.lots import MAX_SIZES, Lot, check_lot
@@ -28,16 +28,22 @@ def pack(lot, store, *, rule="first"):
     check_rule(rule)
     # The last room with enough space is the first one if the rooms stand the other way round.
     turned = rule == "last"
-    runs = _empty_runs(store.backward() if turned else store)
+    runs, left = put_all(lot.counts, store.backward() if turned else store, rule)
+    packing = Packing(*runs)
+    return (packing.backward() if turned else packing, Lot(left))
+
+
+def put_all(counts, store, rule):
+    """The runs of a packing by a rule, and the dict of the counts that are left; for `last` the rooms are turned."""
+    runs = _empty_runs(store)
     left = {}
-    for size in lot.sizes[::-1]:
-        number = lot[size]
+    for size in sorted(counts, reverse=True):
+        number = counts[size]
         if not left:
             runs, number = _put(runs, _order(runs, rule), size, number)
         if number > 0:
             left[size] = number
-    packing = Packing(*runs)
-    return (packing.backward() if turned else packing, Lot(left))
+    return (runs, left)
 
 
 def _empty_runs(store):
@@ -131,6 +137,12 @@ def lot_of(row):
 
 def pack_row(row, store):
     """The packing of the things of a row, each in the first room with enough space, and how many found one."""
+    runs, packed = _row_runs(row, store)
+    return (Packing(*runs), packed)
+
+
+def _row_runs(row, store):
+    """The runs of the packing of the things of a row, and how many found a room."""
     _check_row(row)
     check_store(store)
     runs = _empty_runs(store)
@@ -140,9 +152,10 @@ def pack_row(row, store):
         packed = packed + many - left
         if left > 0:
             break
-    return (Packing(*runs), packed)
+    return (runs, packed)
 
 
 def is_taken(row, store):
     """Whether all things of a row find a room as they come."""
-    return pack_row(row, store)[1] == sum([many for _, many in row])
+    # The packing is not made: it is not asked for.
+    return _row_runs(row, store)[1] == number_of_all(row)

@@ -3,7 +3,7 @@
 from chainpacks.base.chains import first_gap
 from chainpacks.base.checks import check_between, check_count, check_size
 from chainpacks.base.lines import numbers_in
-from chainpacks.base.runs import number_of_all, part_of_runs, run_at
+from chainpacks.base.runs import number_of_all, part_of_runs, run_at, units_of
 from chainpacks.base.words import is_count, is_size
 from chainpacks.errors import InvalidLot, InvalidOperation, ParseError, TooMany
 
@@ -78,10 +78,9 @@ class Lot:
     def units(self, size):
         """The units at a size."""
         check_size(size)
-        pairs = [(each, count) for each, count in self._pairs if each >= size]
-        if any([each % size != 0 for each, _ in pairs]):
+        if any([each > size and each % size != 0 for each in self._sizes]):
             raise InvalidOperation("the size does not divide each greater size of the lot")
-        return sum([each // size * count for each, count in pairs])
+        return units_of(self._pairs, size)
 
     def smallest(self, number):
         """The lot of the so many smallest things."""

@@ -2,7 +2,7 @@
 
 from chainpacks.base.checks import check_between, check_size
 from chainpacks.base.lines import numbers_in
-from chainpacks.base.runs import is_run, joined_runs, number_of_all, part_of_runs, run_at, with_run_at
+from chainpacks.base.runs import is_run, joined_runs, number_of_all, part_of_runs, run_at, units_of, with_run_at
 from chainpacks.base.words import is_size
 from chainpacks.errors import InvalidOperation, InvalidStore, ParseError, TooMany
 
@@ -80,7 +80,7 @@ class Store:
     def units(self, size):
         """The units at a size."""
         check_size(size)
-        return sum([many * (room // size) for room, many in self._runs])
+        return units_of(self._runs, size)
 
     def room_at(self, index):
         """The room with this index."""

@@ -3,7 +3,7 @@
 from chainpacks.base.chains import figures_of, is_chain
 from chainpacks.base.checks import check_count
 from chainpacks.base.lines import numbers_in
-from chainpacks.base.runs import is_run
+from chainpacks.base.runs import is_run, units_of
 from chainpacks.base.words import is_size
 from chainpacks.decide.profiles import plain_counts
 from chainpacks.errors import InvalidLot, InvalidOperation, InvalidSizes, InvalidStore, ParseError
@@ -146,12 +146,8 @@ def is_best_choice(goods, store, value):
     if not goods.is_choice(value) or value.worth != best:
         return False
     # The lot of the value is not made: its counts can be too long for that.
-    return all([_needed(value.counts, size) <= store.units(size) for size in _sizes(value.counts)])
-
-
-def _needed(counts, size):
-    """The units of things at a size."""
-    return sum([kind[0] // size * count for kind, count in counts.items() if kind[0] >= size])
+    things = [(kind[0], count) for kind, count in value.counts.items()]
+    return all([units_of(things, size) <= store.units(size) for size in _sizes(value.counts)])
 
 
 def worths_of(goods, store, sizes):

@@ -1,0 +1,1 @@
+"""Texts of values, and a shell that works on a bench."""

@@ -1,0 +1,1 @@
+"""A bench, at which orders are put into a store."""
