@@ -2,6 +2,7 @@
 
 import itertools
 import unittest
+import unittest.mock
 
 from chainpacks.decide.arrivals import fooled_row, is_fooled_row, is_open, is_shutter, opened, shutter
 from chainpacks.errors import InvalidSizes, InvalidStore, NoChain
@@ -259,6 +260,47 @@ class TestGreat(unittest.TestCase):
         self.check(TWELVE, store.backward())
         self.assertEqual(opened(TWELVE, Store((4096, 9), (1, 1), (4097, 1), (2, 4))), Store((1, 1), (2, 4), (4097, 1), (4096, 9))
                          if is_open(TWELVE, Store((1, 1), (2, 4), (4097, 1), (4096, 9))) else None)
+
+
+class TestShortNumbers(unittest.TestCase):
+    """If integers could only be very small, the row would still be found, as it is for integers of 200 digits."""
+
+    ROWS = [
+        (4, 5, 5, 2, 3), (3, 2, 3, 2, 3), (8, 2, 5, 3), (3, 3, 3, 3), (3, 3, 2, 2, 5), (2, 2, 2, 3, 3), (4, 4, 4, 5, 5),
+        (2, 2, 2, 2, 3, 1), (3, 3, 3, 3, 3), (2, 2, 4, 4, 3),
+    ]
+
+    def has_row(self, chain, rooms, most):
+        """Whether there is a fooled row of at most so many things of each size, by a look at all rows."""
+        start = (tuple(rooms), (0,) * len(chain))
+        seen, waiting = {start}, [start]
+        while waiting:
+            left, counts = waiting.pop()
+            for which, size in enumerate(chain):
+                more = counts[:which] + (counts[which] + 1,) + counts[which + 1:]
+                at = next((at for at, space in enumerate(left) if space >= size), None)
+                if more[which] <= most and at is None:
+                    if can_fit([each for each, many in zip(chain, more) for _ in range(many)], rooms):
+                        return True
+                elif more[which] <= most:
+                    state = (left[:at] + (left[at] - size,) + left[at + 1:], more)
+                    if state not in seen:
+                        seen.add(state)
+                        waiting.append(state)
+        return False
+
+    def test_small_limits(self):
+        place = "chainpacks.decide.arrivals"
+        for most in (3, 4, 5):
+            with unittest.mock.patch.multiple(place, _LONGEST=most, is_count=lambda value: 0 <= value <= most):
+                for chain in ((1, 2), (1, 3), (2, 4), (1, 2, 4), (1, 2, 6), (1, 3, 6)):
+                    for rooms in [row for row in all_rows(range(1, 10), 3) if sum(row) <= 15] + self.ROWS:
+                        store = store_of(rooms)
+                        if not is_open(chain, store):
+                            self.assertEqual(raised(fooled_row, chain, store) is None, self.has_row(chain, rooms, most), (chain, rooms, most))
+                            if raised(fooled_row, chain, store) is None:
+                                counts = lot_of(fooled_row(chain, store)).counts
+                                self.assertLessEqual(max(counts.values()), most)
 
 
 class TestWrongInputs(unittest.TestCase):

@@ -192,6 +192,9 @@ class TestEdges(unittest.TestCase):
             self.assertIs(is_pay_paper(Lot({2: 1}), 1, ("lacks", value)), value is not True and value == 2)
             self.assertIs(is_pay_paper(Lot({1: 1}), 1, ("lacks", value)), False)
         self.assertIs(is_pay_paper(Lot({1: 1}), 9, ("over", 1, 1)), False)
+        for word in ("Over", "", None, "overs", "more", ("over",)):
+            self.assertIs(is_pay_paper(PURSE, 300, (word, 223)), False)
+            self.assertIs(is_pay_paper(PURSE, 64, (word, 5)), False)
         self.assertIs(is_pay_paper(PURSE, 300, ("over", 300)), False)
         self.assertIs(is_pay_paper(PURSE, 223, ("over", 223)), False)
 

@@ -98,7 +98,7 @@ class TestCommands(unittest.TestCase):
 
     def test_errors(self):
         shell = filled_shell()
-        long = "9" * 4000
+        long = "9" * 7900
         forty_one = ", ".join(f"{1 + at % 2} many {at + 1}" for at in range(41))
         for command, answer in (
             ("add cid 1 many 1", "name"), ("take cid nothing", "name"), ("deliver cid 3 many 1", "name"), ("cancel cid", "name"), ("order cid", "name"),

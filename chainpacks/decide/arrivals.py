@@ -1,7 +1,7 @@
 """Things that come in any order: stores in which all find a room, and rows of things that do not in others."""
 
 from chainpacks.base.chains import check_chain
-from chainpacks.base.runs import number_of_all, part_of_runs, run_at, units_of
+from chainpacks.base.runs import joined_runs, number_of_all, part_of_runs, run_at, units_of
 from chainpacks.base.words import is_count
 from chainpacks.errors import InvalidLot
 from chainpacks.pack.rules import is_row, is_taken
@@ -18,14 +18,14 @@ def _check(chain, store):
 
 
 def _shutting_rooms(runs, low, size):
-    """The numbers of the first room that holds a size, and of a later one with space for a lesser size beside it."""
+    """The numbers of a room that holds a size, and of the first later one with space for a lesser size beside it."""
     first = None
     start = 0
     for room, many in runs:
         beside = room % size >= low
         if first is not None and beside:
             return (first, start)
-        if first is None and room >= size:
+        if room >= size:
             first = start
             if beside and many > 1:
                 return (first, start + 1)
@@ -79,19 +79,16 @@ def fooled_row(chain, store):
 
 def _found_row(chain, store, low, size):
     """A fooled row in which lesser things shut a room for a size; None if there is none that is not too long."""
-    start = 0
-    for room, many in store.runs:
-        unit = start
-        for _ in range(2):
-            spot = _spot(store.runs, low, size, unit)
-            if spot is None:
-                return None
-            row, left = _row(chain, store.runs, low, size, spot)
-            if left == 0:
-                return row if _is_short(row) and is_fooled_row(chain, store, row) else None
-            # Too many things of the size would be needed, so lesser things take so many units of it more.
-            unit = unit + left
-        start = start + room // size * many
+    unit = 0
+    for _ in range(2):
+        spot = _spot(store.runs, low, size, unit)
+        if spot is None:
+            return None
+        row, left = _row(chain, store.runs, low, size, spot)
+        if left == 0:
+            return row
+        # Too many things of the size would be needed, so lesser things take that many units.
+        unit = unit + left
     return None
 
 
@@ -111,45 +108,30 @@ def _spot(runs, low, size, unit):
 
 
 def _row(chain, runs, low, size, spot):
-    """A row that shuts a unit of a size, and how many units are free behind it, as numbers must not be too long."""
+    """A row that shuts a unit of a size, None if it is too long, and how many units would be left free behind it."""
     first, unit = spot
     room = run_at(runs, first)[0]
     # Lesser things fill what is ahead, and a last one takes space of the unit, which so holds none of the size.
     ahead = part_of_runs(runs, 0, first) + ((room % size + unit * size, 1),)
-    row = _lesser_things(ahead, [each for each in chain[::-1] if low <= each < size])
-    row[-1] = (low, row[-1][1] + 1)
+    lesser, unfilled = _things_in(ahead, [each for each in chain[::-1] if low <= each < size])
+    if unfilled > 0:
+        return (None, 0)
     behind = (((room // size - unit - 1) * size, 1),) + part_of_runs(runs, first + 1, number_of_all(runs))
-    greater = _greater_things(behind, [each for each in chain[::-1] if each >= size])
-    left = units_of(behind, size) - units_of(greater, size)
+    greater, left = _things_in(behind, [each for each in chain[::-1] if each >= size])
     # If the last lesser thing is put beside the units of a later room, one more thing of the size has its place.
-    row = row + greater + [(size, 1)]
-    return (tuple([pair for pair in row if pair[1] > 0]), left)
+    row = lesser + [(low, 1)] + greater + [(size, 1)]
+    return (joined_runs([pair for pair in row if pair[1] > 0]), left)
 
 
-def _lesser_things(rooms, sizes):
-    """The things that fill these rooms, the greatest of these sizes first."""
-    things = []
-    spaces = rooms
-    for size in sizes:
-        things.append((size, units_of(spaces, size)))
-        spaces = [(space % size, many) for space, many in spaces]
-    return things
-
-
-def _greater_things(rooms, sizes):
-    """The things that fill these rooms, the greatest of these sizes first, so that few are needed; not too many."""
+def _things_in(rooms, sizes):
+    """The things that fill rooms, the greatest of these sizes first, but not too many; and the units that are free."""
     things = []
     for size in sizes:
         free = units_of(rooms, size) - units_of(things, size)
-        # There is one thing more of the last size.
+        # Of the last size there is one thing more.
         most = _LONGEST - 1 if size == sizes[-1] else _LONGEST
         things.append((size, min(free, most)))
-    return things
-
-
-def _is_short(row):
-    """Whether the things of each size of the row are not too many for a lot."""
-    return all([is_count(sum([many for each, many in row if each == size])) for size, _ in row])
+    return (things, units_of(rooms, sizes[-1]) - units_of(things, sizes[-1]))
 
 
 def is_fooled_row(chain, store, value):

@@ -1,7 +1,6 @@
 """What is left out of a lot that does not fit: parts with the most things, or with the greatest total."""
 
 from chainpacks.base.runs import part_of_runs
-from chainpacks.base.words import is_size
 from chainpacks.decide.levels import barring_sizes, check_together, fits, spare
 from chainpacks.errors import InvalidOperation
 from chainpacks.things.lots import Lot, check_lot
@@ -126,6 +125,6 @@ def keep_all_of(lot, store, sizes):
 
 def _are_sizes_of(lot, value):
     """Whether the value is an ascending tuple of sizes of the lot."""
-    if not isinstance(value, tuple) or not all([is_size(size) and size in lot for size in value]):
+    if not isinstance(value, tuple) or not all([size in lot for size in value]):
         return False
     return all([low < high for low, high in zip(value, value[1:])])

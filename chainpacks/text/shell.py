@@ -124,9 +124,7 @@ def _answer(bench, command):
     if command in PLAIN:
         action = PLAIN[command]
         return action(bench)
-    word, blank, rest = command.partition(" ")
-    if blank == "":
-        return None
+    word, _, rest = command.partition(" ")
     if word in WITH_NAME:
         return _answer_to_name(bench, word, rest)
     if word in WITH_LOT:

@@ -73,7 +73,7 @@ def write_fit(paper):
 
 def _is_paper(value):
     """Whether the value is a pair of `packed` and any packing, or of `barred` and any size."""
-    if not isinstance(value, tuple) or len(value) != 2 or not isinstance(value[0], str):
+    if not isinstance(value, tuple) or len(value) != 2:
         return False
     if value[0] == "packed":
         return isinstance(value[1], Packing)

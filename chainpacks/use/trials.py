@@ -6,10 +6,6 @@ class Trial:
 
     def __init__(self, bench):
         self._bench = bench
-        self._store = None
-        self._orders = None
-        self._promise = None
-        self._past = None
 
     def __enter__(self):
         bench = self._bench
