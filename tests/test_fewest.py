@@ -289,6 +289,14 @@ class TestGreat(unittest.TestCase):
         self.assertEqual((number, size), (2 * LONGEST, 1))
         self.assertIs(is_packing_of(lot, store, packing), True)
         self.assertIs(is_cap_paper(lot, store, cap_paper(lot, store)), True)
+        for lot, store in (
+            (Lot({1: 5}), Store((10, LONGEST), (7, LONGEST))), (Lot({5: LONGEST, 1: 7}), Store((5, LONGEST), (3, 1), (5, LONGEST))),
+            (Lot({2: LONGEST}), Store((10, LONGEST), (7, LONGEST), (8, LONGEST))), (Lot({1: 3}), Store((4, LONGEST), (2, 1), (4, LONGEST))),
+        ):
+            paper = cap_paper(lot, store)
+            self.assertEqual((is_cap_paper(lot, store, paper), paper[0]), (True, least_cap(lot, store)))
+            paper = rooms_paper(lot, store)
+            self.assertEqual((is_packing_of(lot, store, paper[1]), paper[0], used_rooms(paper[1])), (True,) + (fewest_of(lot, store),) * 2)
 
 
 class TestWrongInputs(unittest.TestCase):

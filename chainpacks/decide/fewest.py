@@ -6,9 +6,9 @@ from chainpacks.base.words import is_size
 from chainpacks.decide.levels import barring_sizes, check_together, levels_of
 from chainpacks.errors import InvalidOperation, NoRoom
 from chainpacks.pack.packings import Packing, is_packing_of, plain_load
-from chainpacks.pack.rules import pack
+from chainpacks.pack.rules import put_all
 from chainpacks.things.lots import check_lot
-from chainpacks.things.stores import Store, check_store
+from chainpacks.things.stores import check_store
 
 
 def _rounded_up(number, divisor):
@@ -110,16 +110,15 @@ def rooms_paper(lot, store):
     _check_things(lot, store)
     number, size = max(_numbers(lot, store))
     chosen = _greatest(store, number)
-    runs = [(room, many) for room, many, _ in chosen if many > 0]
-    packed = pack(lot, Store(*runs))[0].runs
+    # No store of the chosen rooms is made: the numbers of its runs could be too long.
+    packed = put_all(lot.counts, [(room, many) for room, many, _ in chosen], "first")[0]
     shown = []
     start = 0
     for room, many, left in chosen:
-        shown = shown + list(part_of_runs(packed, start, start + many))
-        if left > 0:
-            shown.append((room, left, ()))
+        shown = shown + list(part_of_runs(packed, start, start + many)) + [(room, left, ())]
         start = start + many
-    return (number, Packing(*shown), size)
+    runs = [run for run in shown if run[1] > 0]
+    return (number, Packing(*runs), size)
 
 
 def _greatest(store, number):
@@ -167,7 +166,7 @@ def cap_paper(lot, store):
     """Any cap paper of the lot and the store."""
     _check_things(lot, store)
     cap, size = max(_caps(lot, store))
-    packed = pack(lot, store.capped(cap))[0].runs
+    packed = put_all(lot.counts, [(min(room, cap), many) for room, many in store.runs], "first")[0]
     shown = []
     start = 0
     for room, many in store.runs:

@@ -28,14 +28,14 @@ def pack(lot, store, *, rule="first"):
     check_rule(rule)
     # The last room with enough space is the first one if the rooms stand the other way round.
     turned = rule == "last"
-    runs, left = put_all(lot.counts, store.backward() if turned else store, rule)
+    runs, left = put_all(lot.counts, store.runs[::-1] if turned else store.runs, rule)
     packing = Packing(*runs)
     return (packing.backward() if turned else packing, Lot(left))
 
 
-def put_all(counts, store, rule):
-    """The runs of a packing by a rule, and the dict of the counts that are left; for `last` the rooms are turned."""
-    runs = _empty_runs(store)
+def put_all(counts, rooms, rule):
+    """The runs of a packing in runs of rooms, and the dict of the counts that are left; for `last` these are turned."""
+    runs = _empty_runs(rooms)
     left = {}
     for size in sorted(counts, reverse=True):
         number = counts[size]
@@ -46,9 +46,9 @@ def put_all(counts, store, rule):
     return (runs, left)
 
 
-def _empty_runs(store):
-    """The runs of the rooms of a store with nothing in them."""
-    return [(room, many, ()) for room, many in store.runs]
+def _empty_runs(rooms):
+    """The runs of a packing of nothing in runs of rooms."""
+    return [(room, many, ()) for room, many in rooms]
 
 
 def _order(runs, rule):
@@ -145,7 +145,7 @@ def _row_runs(row, store):
     """The runs of the packing of the things of a row, and how many found a room."""
     _check_row(row)
     check_store(store)
-    runs = _empty_runs(store)
+    runs = _empty_runs(store.runs)
     packed = 0
     for size, many in row:
         runs, left = _put(runs, list(range(len(runs))), size, many)

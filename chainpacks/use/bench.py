@@ -91,6 +91,10 @@ class Bench:
         """The lots of all orders, and the promise."""
         return list(self._orders.values()) + [self._promise]
 
+    def _number(self):
+        """How many things the orders have."""
+        return sum([lot.number for lot in list(self._orders.values())])
+
     def _check_order(self, name):
         """Raise UnknownName unless this is the name of an order."""
         if name not in self:
@@ -188,7 +192,7 @@ class Bench:
     def plan(self):
         """Any packing of all orders in the store."""
         # The lot of all orders is not made: its counts can be too long for that.
-        runs = put_all(counts_of(list(self._orders.values())), self._store, "first")[0]
+        runs = put_all(counts_of(list(self._orders.values())), self._store.runs, "first")[0]
         return Packing(*runs)
 
     def least_store(self, room):
@@ -238,9 +242,10 @@ class Bench:
         return len(self._orders)
 
     def __eq__(self, other):
-        same = isinstance(other, Bench) and self._chain == other._chain and self._store == other._store
-        return same and self._orders == other._orders and self._promise == other._promise
+        return (
+            isinstance(other, Bench) and self._chain == other._chain and self._store == other._store
+            and self._orders == other._orders and self._promise == other._promise
+        )
 
     def __str__(self):
-        things = counts_of(list(self._orders.values()))
-        return f"bench of {len(self._orders)} orders, {sum(list(things.values()))} things"
+        return f"bench of {len(self._orders)} orders, {self._number()} things"
