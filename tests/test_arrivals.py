@@ -253,6 +253,8 @@ class TestGreat(unittest.TestCase):
         self.assertEqual(opened((1,), Store((5, LONGEST), (3, 1), (5, LONGEST))), Store((5, LONGEST), (3, 1), (5, LONGEST)))
         two = Store((5, LONGEST), (3, 1), (5, LONGEST), (2, 1))
         self.assertEqual(opened((1, 7), two), two)
+        found = opened((1, 100), Store((100, 3), (5, LONGEST), (100, 1), (5, LONGEST), (7, 1)))
+        self.assertEqual((is_open((1, 100), found), [many for room, many in found.runs if room == 5]), (True, [LONGEST, LONGEST]))
 
     def test_twelve_sizes(self):
         store = Store((5000, 10 ** 50), (4097, 3), (2047, 10 ** 60))

@@ -151,8 +151,12 @@ def opened(chain, store):
         return store
     # A room can stand ahead of another one if the greatest size that it holds divides what the other one holds. The
     # sizes that a room is a multiple of, and that it holds, are an interval, and the intervals must stand in order.
-    told = sorted([_interval(chain, room) + (at,) for at, (room, _) in enumerate(store.runs)])
-    runs = [store.runs[at] for _, _, at in told]
+    told = []
+    for at, (room, _) in enumerate(store.runs):
+        # Equal rooms stay apart where others can stand between them, as the numbers of their runs can be too long.
+        ahead = len([each for each, _ in store.runs[:at] if each == room])
+        told.append(_interval(chain, room) + (ahead, at))
+    runs = [store.runs[at] for _, _, _, at in sorted(told)]
     found = Store(*runs)
     return found if is_open(chain, found) else None
 
