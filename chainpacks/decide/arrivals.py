@@ -8,6 +8,7 @@ from chainpacks.pack.rules import is_row, is_taken
 from chainpacks.things.stores import Store, check_store
 
 MAX_PAIRS = 40
+# The greatest integer of 200 digits, as no exponent is greater than 64.
 _LONGEST = (10 ** 50) ** 4 - 1
 
 

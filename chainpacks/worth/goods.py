@@ -57,7 +57,7 @@ class Goods:
     @property
     def lines(self):
         """The lines, ascending by their pairs."""
-        return tuple([f"size {size} worth {worth} many {self._counts[(size, worth)]}" for size, worth in self._kinds])
+        return tuple([f"size {kind[0]} worth {kind[1]} many {self._counts[kind]}" for kind in self._kinds])
 
     @property
     def lot(self):
