@@ -246,6 +246,11 @@ class TestGreat(unittest.TestCase):
         self.check((1, 2, 6), Store((3, 9), (7, LONGEST), (8, LONGEST // 4)))
         self.check((2, 6, 12), Store((13, LONGEST), (8, LONGEST // 2), (5, 1)))
         self.check((1, 2, 100), Store((101, 10 ** 190), (3, LONGEST), (5, 1), (3, 5)))
+        # Things of all three sizes are needed, nearly as many as there can be, and the least ones come first.
+        third = LONGEST // 3
+        self.check((1, 2, 4), Store((4, third), (9, third), (6, third), (4, third)))
+        self.check((1, 2, 6), Store((4, 2 * third), (7, third), (4, third)))
+        self.check((1, 2, 4), Store((3, 3 * third), (5, third), (3, third)))
         self.check((1, 2, 100), Store((101, 10 ** 190), (203, 10 ** 199), (3, LONGEST // 3)))
         self.assertIs(is_open((1, LONGEST), Store((LONGEST, LONGEST))), True)
         self.assertIs(is_open((LONGEST,), Store((LONGEST, LONGEST), (5, LONGEST))), True)
@@ -269,7 +274,7 @@ class TestShortNumbers(unittest.TestCase):
 
     ROWS = [
         (4, 5, 5, 2, 3), (3, 2, 3, 2, 3), (8, 2, 5, 3), (3, 3, 3, 3), (3, 3, 2, 2, 5), (2, 2, 2, 3, 3), (4, 4, 4, 5, 5),
-        (2, 2, 2, 2, 3, 1), (3, 3, 3, 3, 3), (2, 2, 4, 4, 3),
+        (2, 2, 2, 2, 3, 1), (3, 3, 3, 3, 3), (2, 2, 4, 4, 3), (3, 3, 3, 5, 3), (4, 9, 6, 4), (8, 4, 7, 7), (4, 4, 7, 4), (2, 3, 3, 9, 3, 3),
     ]
 
     def has_row(self, chain, rooms, most):
@@ -293,7 +298,7 @@ class TestShortNumbers(unittest.TestCase):
 
     def test_small_limits(self):
         place = "chainpacks.decide.arrivals"
-        for most in (3, 4, 5):
+        for most in (2, 3, 4, 5):
             with unittest.mock.patch.multiple(place, _LONGEST=most, is_count=lambda value: 0 <= value <= most):
                 for chain in ((1, 2), (1, 3), (2, 4), (1, 2, 4), (1, 2, 6), (1, 3, 6)):
                     for rooms in [row for row in all_rows(range(1, 10), 3) if sum(row) <= 15] + self.ROWS:

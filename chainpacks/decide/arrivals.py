@@ -8,6 +8,8 @@ from chainpacks.pack.rules import is_row, is_taken
 from chainpacks.things.stores import Store, check_store
 
 MAX_PAIRS = 40
+# What is too many is nearly always found out at once; no more tries means that no call takes long.
+MOST_TRIES = 3
 # The greatest integer of 200 digits, as no exponent is greater than 64.
 _LONGEST = (10 ** 50) ** 4 - 1
 
@@ -80,48 +82,58 @@ def fooled_row(chain, store):
 
 def _found_row(chain, store, low, size):
     """A fooled row in which lesser things shut a room for a size; None if there is none that is not too long."""
+    lesser = [each for each in chain[::-1] if low <= each < size]
+    smaller = [each for each in chain[::-1] if each < low]
     unit = 0
-    for _ in range(2):
-        spot = _spot(store.runs, low, size, unit)
-        if spot is None:
+    for _ in range(MOST_TRIES):
+        ahead, behind = _parted(store.runs, size, unit)
+        if not any([room % size >= low for room, _ in behind[1:]]):
             return None
-        row, left = _row(chain, store.runs, low, size, spot)
-        if left == 0:
-            return row
+        things = _filling(ahead, lesser, smaller)
+        greater, free = _things_in(behind, [each for each in chain[::-1] if each >= size])
+        if things is None:
+            return None
+        if free == 0:
+            # The last lesser thing takes space of the unit, which so holds none of the size. If it is put beside the
+            # units of a later room, there is a place for the last thing of the row.
+            row = things + [(low, 1)] + greater + [(size, 1)]
+            return joined_runs([pair for pair in row if pair[1] > 0])
         # Too many things of the size would be needed, so lesser things take that many units.
-        unit = unit + left
+        unit = unit + free
     return None
 
 
-def _spot(runs, low, size, unit):
-    """The number of the room with a unit of a size, and of the unit in it; None if no later room has space beside."""
-    start = 0
+def _parted(rooms, size, unit):
+    """The rooms ahead of a unit of a size, with what is ahead of it in its own room, and those behind it likewise."""
     left = unit
-    for room, many in runs:
+    for at, (room, many) in enumerate(rooms):
         units = room // size
         if left < units * many:
-            index = start + left // units
-            behind = part_of_runs(runs, index + 1, number_of_all(runs))
-            return (index, left % units) if any([later % size >= low for later, _ in behind]) else None
+            whole, begun = divmod(left, units)
+            ahead = rooms[:at] + ((room, whole), (room % size + begun * size, 1))
+            behind = (((units - begun - 1) * size, 1), (room, many - whole - 1)) + rooms[at + 1:]
+            return [tuple([run for run in runs if run[1] > 0]) for runs in (ahead, behind)]
         left = left - units * many
-        start = start + many
-    return None
+    return [rooms, ()]
 
 
-def _row(chain, runs, low, size, spot):
-    """A row that shuts a unit of a size, None if it is too long, and how many units would be left free behind it."""
-    first, unit = spot
-    room = run_at(runs, first)[0]
-    # Lesser things fill what is ahead, and a last one takes space of the unit, which so holds none of the size.
-    ahead = part_of_runs(runs, 0, first) + ((room % size + unit * size, 1),)
-    lesser, unfilled = _things_in(ahead, [each for each in chain[::-1] if low <= each < size])
-    if unfilled > 0:
-        return (None, 0)
-    behind = (((room // size - unit - 1) * size, 1),) + part_of_runs(runs, first + 1, number_of_all(runs))
-    greater, left = _things_in(behind, [each for each in chain[::-1] if each >= size])
-    # If the last lesser thing is put beside the units of a later room, one more thing of the size has its place.
-    row = lesser + [(low, 1)] + greater + [(size, 1)]
-    return (joined_runs([pair for pair in row if pair[1] > 0]), left)
+def _filling(rooms, sizes, smaller):
+    """Things that leave no unit of the last of some sizes in rooms; None if there would be too many of all sizes."""
+    first = []
+    things, free = _things_in(rooms, sizes)
+    taken = 0
+    for _ in range(MOST_TRIES):
+        if free == 0 or not smaller:
+            break
+        # Smaller things take the first units, as many as there are too few things of these sizes for.
+        taken = taken + free
+        ahead, behind = _parted(rooms, sizes[-1], taken - 1)
+        first = _filling(ahead, smaller[:1], smaller[1:])
+        if first is None:
+            return None
+        first = first + [(smaller[0], 1)]
+        things, free = _things_in(behind, sizes)
+    return first + things if free == 0 else None
 
 
 def _things_in(rooms, sizes):
