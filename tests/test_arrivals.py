@@ -5,7 +5,7 @@ import unittest
 import unittest.mock
 
 from chainpacks.decide.arrivals import fooled_row, is_fooled_row, is_open, is_shutter, opened, shutter
-from chainpacks.errors import InvalidSizes, InvalidStore, NoChain
+from chainpacks.errors import InvalidLot, InvalidSizes, InvalidStore, NoChain
 from chainpacks.pack.rules import is_row, is_taken, lot_of
 from chainpacks.decide.levels import fits
 from chainpacks.things.lots import Lot
@@ -304,8 +304,9 @@ class TestShortNumbers(unittest.TestCase):
                     for rooms in [row for row in all_rows(range(1, 10), 3) if sum(row) <= 15] + self.ROWS:
                         store = store_of(rooms)
                         if not is_open(chain, store):
-                            self.assertEqual(raised(fooled_row, chain, store) is None, self.has_row(chain, rooms, most), (chain, rooms, most))
-                            if raised(fooled_row, chain, store) is None:
+                            told = raised(fooled_row, chain, store)
+                            self.assertEqual(told, None if self.has_row(chain, rooms, most) else (InvalidLot, None), (chain, rooms, most))
+                            if told is None:
                                 counts = lot_of(fooled_row(chain, store)).counts
                                 self.assertLessEqual(max(counts.values()), most)
 

@@ -1,7 +1,7 @@
 """Things that come in any order: stores in which all find a room, and rows of things that do not in others."""
 
 from chainpacks.base.chains import check_chain
-from chainpacks.base.runs import joined_runs, number_of_all, part_of_runs, run_at, units_of
+from chainpacks.base.runs import joined_runs, units_of
 from chainpacks.base.words import is_count
 from chainpacks.errors import InvalidLot
 from chainpacks.pack.rules import is_row, is_taken
